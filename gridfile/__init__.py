@@ -1,0 +1,1 @@
+"""Gridfile: spreadsheets as files of several parts."""
