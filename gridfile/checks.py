@@ -23,6 +23,11 @@ def is_text(value, least, most, signs):
     return isinstance(value, str) and least <= len(value) <= most and is_made_of(value, signs)
 
 
+def is_one_of(value, words):
+    """Whether a value of any kind is one of these strings."""
+    return isinstance(value, str) and value in words
+
+
 def is_row(value):
     """Whether a value of any kind is a list or tuple, as rows of items are passed."""
     return isinstance(value, (list, tuple))

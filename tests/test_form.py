@@ -159,6 +159,17 @@ class Names(unittest.TestCase):
             if isinstance(node.func, ast.Attribute):
                 self.assertIn(node.func.attr, METHODS | own, (name, node.lineno))
 
+    def test_lists_and_dicts_at_the_top_are_only_read(self):
+        kept = {target.id for tree in trees().values() for node in tree.body if isinstance(node, ast.Assign)
+                and isinstance(node.value, (ast.List, ast.Dict)) for target in node.targets}
+        for name, tree in trees().items():
+            above = {child: node for node in ast.walk(tree) for child in ast.iter_child_nodes(node)}
+            for node in ast.walk(tree):
+                if isinstance(node, ast.Name) and node.id in kept and isinstance(node.ctx, ast.Load):
+                    read = above[node]
+                    is_asked = isinstance(read, ast.Attribute) and read.attr in ("get", "items", "keys", "values")
+                    self.assertTrue(isinstance(read, (ast.Subscript, ast.Compare)) or is_asked, (name, node.lineno))
+
     def test_words_that_do_not_occur(self):
         for name, path in files().items():
             self.assertIsNone(BARRED_WORDS.search(path.read_text(encoding="utf-8")), name)

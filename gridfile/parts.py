@@ -1,0 +1,99 @@
+"""The parts of sheets: cells, merges, settings, links. What is wrong is told as (index,), (None,) or None."""
+
+from gridfile.checks import is_integer, is_row, is_tuple_of
+from gridfile.places import MOST_COLUMN, MOST_ROW, is_place, is_rectangle
+from gridfile.trees import is_tree
+from gridfile.values import PLAIN, is_short_string, is_style, is_value
+
+MOST_LINKS = 2000
+MOST_MERGES = 300
+MOST_SIZE = 1000
+
+
+def merge_with(merges, place):
+    """The merge that has the place, or None."""
+    for merge in merges:
+        if merge[0] <= place[0] <= merge[2] and merge[1] <= place[1] <= merge[3]:
+            return merge
+    return None
+
+
+def is_covered_by(merges, place):
+    """Whether the place lies in a merge, and is not its first one."""
+    merge = merge_with(merges, place)
+    return merge is not None and merge[:2] != place
+
+
+def wrong_cell(cells, merges, most):
+    """What is wrong with the cells of a sheet with these merges."""
+    return _wrong_item(cells, lambda item: _is_cell(item) and not _is_full_and_covered(item, merges), most)
+
+
+def wrong_link(links, merges):
+    """What is wrong with the links of a sheet with these merges."""
+    return _wrong_item(links, lambda item: _is_link(item) and not is_covered_by(merges, item[0]), MOST_LINKS)
+
+
+def wrong_setting(settings, most):
+    """What is wrong with the settings of columns or rows, of which this is the greatest number."""
+    return _wrong_item(settings, lambda item: _is_setting(item, most), most)
+
+
+def wrong_merge(merges):
+    """What is wrong with the merges of a sheet."""
+    if not is_row(merges):
+        return (None,)
+    for at, merge in enumerate(merges):
+        if at == MOST_MERGES or not is_rectangle(merge) or merge[:2] == merge[2:]:
+            return (at,)
+        if at > 0 and merge <= merges[at - 1] or any(_meet(one, merge) for one in merges[:at]):
+            return (at,)
+    return None
+
+
+def is_frozen(value):
+    """Whether a value of any kind is a pair of the numbers of frozen rows and columns."""
+    return is_tuple_of(value, 2) and is_integer(value[0], 0, MOST_ROW) and is_integer(value[1], 0, MOST_COLUMN)
+
+
+def _wrong_item(items, is_right, most):
+    """Items are ascending by their own first items, each number or place once."""
+    if not is_row(items):
+        return (None,)
+    before = None
+    for at, item in enumerate(items):
+        if at == most or not is_right(item) or before is not None and item[0] <= before:
+            return (at,)
+        before = item[0]
+    return None
+
+
+def _meet(one, other):
+    """Whether two rectangles have a place in common."""
+    return one[0] <= other[2] and other[0] <= one[2] and one[1] <= other[3] and other[1] <= one[3]
+
+
+def _is_cell(value):
+    if not is_tuple_of(value, 4) or not is_place(value[0]) or not is_value(value[1]):
+        return False
+    if value[2] is not None and not is_tree(value[2]):
+        return False
+    return is_style(value[3]) and value[1:] != (None, None, PLAIN)
+
+
+def _is_full_and_covered(cell, merges):
+    if cell[1] is None and cell[2] is None:
+        return False
+    return is_covered_by(merges, cell[0])
+
+
+def _is_setting(value, most):
+    if not is_tuple_of(value, 4) or not is_integer(value[0], 1, most) or not isinstance(value[2], bool):
+        return False
+    if value[1] is not None and not is_integer(value[1], 0, MOST_SIZE):
+        return False
+    return is_style(value[3]) and value[1:] != (None, False, PLAIN)
+
+
+def _is_link(value):
+    return is_tuple_of(value, 2) and is_place(value[0]) and is_short_string(value[1]) and value[1] != ""
