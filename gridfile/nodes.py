@@ -44,6 +44,13 @@ def own_weight(node):
     return weight
 
 
+def level_in(node):
+    """The level of a tree, which tells how closely its sign binds."""
+    if node[0] == "op":
+        return LEVELS[node[1]]
+    return MINUS_LEVEL if node[0] == "minus" else OTHER_LEVEL
+
+
 def depth_of(node):
     """How deep a tree is."""
     return 1 + max([depth_of(inner) for _, inner in trees_in(node)], default=0)
@@ -55,6 +62,19 @@ def with_tree(part, path, other):
         return other
     at = path[0]
     return (*part[:at], with_tree(part[at], path[1:], other), *part[at + 1:])
+
+
+def with_references(tree, change):
+    """The tree with what a function makes of each reference in the place of this one."""
+    if tree[0] in REFERENCES:
+        return change(tree)
+    if tree[0] == "op":
+        return ("op", tree[1], with_references(tree[2], change), with_references(tree[3], change))
+    if tree[0] == "minus":
+        return ("minus", with_references(tree[1], change))
+    if tree[0] == "call":
+        return ("call", tree[1], tuple([with_references(inner, change) for inner in tree[2]]))
+    return tree
 
 
 def references_of(tree):

@@ -36,7 +36,7 @@ def wrong_link(links, merges):
 
 def wrong_setting(settings, most):
     """What is wrong with the settings of columns or rows, of which this is the greatest number."""
-    return _wrong_item(settings, lambda item: _is_setting(item, most), most)
+    return _wrong_item(settings, lambda item: is_setting(item, most), most)
 
 
 def wrong_merge(merges):
@@ -54,6 +54,15 @@ def wrong_merge(merges):
 def is_frozen(value):
     """Whether a value of any kind is a pair of the numbers of frozen rows and columns."""
     return is_tuple_of(value, 2) and is_integer(value[0], 0, MOST_ROW) and is_integer(value[1], 0, MOST_COLUMN)
+
+
+def is_setting(value, most):
+    """Whether a value of any kind is a setting of a column or row, of which this is the greatest number."""
+    if not is_tuple_of(value, 4) or not is_integer(value[0], 1, most) or not isinstance(value[2], bool):
+        return False
+    if value[1] is not None and not is_integer(value[1], 0, MOST_SIZE):
+        return False
+    return is_style(value[3]) and value[1:] != (None, False, PLAIN)
 
 
 def _wrong_item(items, is_right, most):
@@ -85,14 +94,6 @@ def _is_full_and_covered(cell, merges):
     if cell[1] is None and cell[2] is None:
         return False
     return is_covered_by(merges, cell[0])
-
-
-def _is_setting(value, most):
-    if not is_tuple_of(value, 4) or not is_integer(value[0], 1, most) or not isinstance(value[2], bool):
-        return False
-    if value[1] is not None and not is_integer(value[1], 0, MOST_SIZE):
-        return False
-    return is_style(value[3]) and value[1:] != (None, False, PLAIN)
 
 
 def _is_link(value):

@@ -1,18 +1,16 @@
 """Trees of formulas and their relative forms: what they are, and what stands in them."""
 
-from gridfile.checks import DIGITS, is_integer, is_one_of, is_text, is_tuple_of
+from gridfile.checks import is_integer, is_one_of, is_tuple_of
 from gridfile.errors import BadSheetName, BadTree, NoPart
-from gridfile.nodes import (LEVELS, MINUS_LEVEL, OTHER_LEVEL, depth_of, has_fixed_parts_only, nodes_of, own_weight,
-                            references_of, trees_in, with_tree, words_of)
+from gridfile.nodes import (LEVELS, depth_of, has_fixed_parts_only, level_in, nodes_of, own_weight, references_of,
+                            trees_in, with_tree, words_of)
 from gridfile.places import MOST_COLUMN, MOST_ROW, is_place, rectangle_of
 from gridfile.values import MOST_NUMBER, is_short_string
-from gridfile.words import is_name_word, is_sheet_name
+from gridfile.words import is_call_word, is_name_word, is_sheet_name
 
 MOST_DEPTH = 20
 MOST_WEIGHT = 1999
 MOST_CALLED = 30
-MOST_CALL_WORD = 20
-CALL_SIGNS = "ABCDEFGHIJKLMNOPQRSTUVWXYZ0123456789"
 TREE_ERRORS = ("NAME", "VALUE", "DIV")
 # How many items the references of trees, and of forms, have.
 TREE_SIZES = {"cell": 3, "range": 4}
@@ -49,9 +47,7 @@ def weight(tree):
 def level_of(tree):
     """The level of a tree or form, which tells how closely its sign binds."""
     _check_either(tree)
-    if tree[0] == "op":
-        return LEVELS[tree[1]]
-    return MINUS_LEVEL if tree[0] == "minus" else OTHER_LEVEL
+    return level_in(tree)
 
 
 def how_many(tree):
@@ -237,7 +233,7 @@ def _is_name(node):
 
 
 def _is_call(node):
-    if len(node) != 3 or not is_text(node[1], 1, MOST_CALL_WORD, CALL_SIGNS) or node[1][0] in DIGITS:
+    if len(node) != 3 or not is_call_word(node[1]):
         return False
     return isinstance(node[2], tuple) and len(node[2]) <= MOST_CALLED
 

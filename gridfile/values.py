@@ -31,9 +31,13 @@ def is_short_string(value):
 
 def is_style(value):
     """Whether a value of any kind is a style."""
-    if not is_tuple_of(value, 5) or not _is_format(value[0]) or not _is_font(value[1]):
-        return False
-    return _is_fill(value[2]) and _is_border(value[3]) and _is_align(value[4])
+    return is_tuple_of(value, 5) and all([is_style_part(at, part) for at, part in enumerate(value)])
+
+
+def is_style_part(at, value):
+    """Whether a value of any kind can stand at this index of a style."""
+    check = PART_CHECKS[at]
+    return check(value)
 
 
 def same(one, other):
@@ -70,3 +74,7 @@ def _is_border(value):
 
 def _is_align(value):
     return is_tuple_of(value, 2) and is_one_of(value[0], ALIGN_WORDS) and isinstance(value[1], bool)
+
+
+# It stands here because it needs the functions above it.
+PART_CHECKS = (_is_format, _is_font, _is_fill, _is_border, _is_align)

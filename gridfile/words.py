@@ -1,11 +1,13 @@
-"""Names of sheets and words of defined names."""
+"""Names of sheets, words of defined names and words of functions."""
 
 from gridfile.checks import CAPITALS, DIGITS, SIGNS, is_made_of, is_text
 
 MOST_SHEET_NAME = 31
 MOST_NAME_WORD = 20
+MOST_CALL_WORD = 20
 BARRED_IN_SHEET_NAMES = ":\\/?*[]'\""
 WORD_SIGNS = "ABCDEFGHIJKLMNOPQRSTUVWXYZabcdefghijklmnopqrstuvwxyz0123456789_"
+CALL_SIGNS = "ABCDEFGHIJKLMNOPQRSTUVWXYZ0123456789"
 
 
 def is_sheet_name(value):
@@ -21,6 +23,11 @@ def is_name_word(value):
         return False
     capital = value.upper()
     return capital not in ("TRUE", "FALSE") and not _is_like_place(capital) and not _is_like_part(capital)
+
+
+def is_call_word(value):
+    """Whether a value of any kind can be the word of a function."""
+    return is_text(value, 1, MOST_CALL_WORD, CALL_SIGNS) and value[0] not in DIGITS
 
 
 def _is_like_place(capital):
