@@ -144,6 +144,13 @@ class Offsets(unittest.TestCase):
             self.assertEqual(caught(BadPlace, absolute, form, value).given, value)
 
 
+class Example(unittest.TestCase):
+    def test_it_stands_as_written(self):
+        tree = read_formula("=SUM($B1:C1)+A$9")
+        self.assertEqual((print_form(relative(tree, (1, 4))), room(relative(tree, (1, 4)))), ("=SUM(RC2:RC[-1])+R9C[-3]", (1, 4, 9999, 702)))
+        self.assertEqual(print_formula(fill(tree, (1, 4), (2, 3))), "=SUM($B2:B2)+#REF!")
+
+
 class Rooms(unittest.TestCase):
     def test_rooms_of_one_place_none_and_all(self):
         for form, rectangle in FORMS.values():

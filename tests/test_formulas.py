@@ -171,6 +171,12 @@ class Reading(unittest.TestCase):
             self.assertEqual(caught(BadFormula, without_pair, text, 0).place, place)
             self.assertIs(is_formula(text), False)
 
+    def test_the_examples(self):
+        self.assertEqual(read_formula("=-A1^2"), ("op", "^", ("minus", ("cell", None, (1, 1, False, False))), ("number", 2)))
+        self.assertEqual(normal("=(1+(2*3)) - ( 4-'Data'!$B2:C$3)"), "=1+2*3-(4-Data!$B2:C$3)")
+        self.assertEqual(normal(without_pair("=1-(2-3)", 0)), "=1-2-3")
+        self.assertEqual(place_of("=SUM(A1;2)"), 7)
+
     def test_no_string(self):
         for value in ODD_VALUES:
             if not isinstance(value, str):

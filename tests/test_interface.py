@@ -12,6 +12,7 @@ CONSTANTS = {
     "values": {"PLAIN": ("", ("Plain", 10, False, False), None, (0, 0, 0, 0), ("general", False))},
     "model": {"MOST_CELLS": 2000, "MOST_SHEETS": 30},
     "trees": {"MOST_DEPTH": 20, "MOST_WEIGHT": 1999, "MOST_CALLED": 30},
+    "tables": {"PART_SORTS": ("format", "font", "fill", "border", "align")},
 }
 FUNCTIONS = {
     "places": """is_place(value) is_rectangle(value) column_name(column) place_name(place) rectangle_name(rectangle)
@@ -26,6 +27,20 @@ FUNCTIONS = {
     "trees": """is_tree(value) is_form(value) wrong_at(value) depth(tree) weight(tree) level_of(tree) how_many(tree)
         each_node(tree) node_at(tree,path) replaced(tree,path,other) references(tree) rectangle_of_reference(tree)
         sheets_in(tree) words_in(tree) functions_in(tree) lost_in(tree) with_sheet(tree,old,new) is_all_fixed(tree)""",
+    "formulas": """read_formula(text) is_formula(value) print_formula(tree) tokens(text) normal(text) pairs(text)
+        needless(text) without_pair(text,number)""",
+    "forms": """relative(tree,place) absolute(form,place) print_form(form) read_form(text) room(form) room_of(form,path)
+        fill(tree,start,goal) lost_by(tree,start,goal) same_form(tree,place,other,goal)""",
+    "shifting": """moved_tree(tree,home,name,axis,edit_map) moved(book,name,axis,edit_map) inserted(book,name,axis,at,many)
+        deleted(book,name,axis,at,many) touched(book,name,axis,edit_map) names_touched(book,name,axis,edit_map)
+        moved_place(place,axis,edit_map) moved_merge(rectangle,axis,edit_map) moved_frozen(frozen,axis,edit_map)
+        renamed(book,name,other)""",
+    "filling": """filled(sheet,start,rectangle) copied(sheet,rectangle,goal) safe_part(sheet,start,rectangle)
+        losing_parts(sheet,start,rectangle)""",
+    "tables": "joined_map(first,second)",
+    "runs": """setting_runs(settings) settings_of(runs) joins_of(cells) crosses(one,other) greatest_matching(cells)
+        given_up(cells) fewest_lines(cells) formula_lines(cells) line_cells(lines) check_matching(cells,pairs)""",
+    "counts": "formula_cells(sheet) counts_of(book) paper_of(book) check_paper(book,paper) is_shown(book,paper)",
 }
 CLASSES = {
     "model": {
@@ -38,7 +53,23 @@ CLASSES = {
             sheet_at(self,number) number_of(self,name) sheet_named(self,name) with_sheet(self,number,sheet)
             changed(self,**parts) is_same(self,other)""",
     },
+    "editmaps": {
+        "EditMap": """unchanged(cls) inserting(cls,at,many) deleting(cls,at,many) of(cls,edits) pieces(self) then(self,other)
+            back(self) is_same(self,other) new_of(self,number) old_at(self,number) marks_at(self,number)
+            span_of(self,first,last) front_of(self,count) gone(self) made(self)""",
+    },
+    "tables": {
+        "TextTable": """__init__(self,texts=()) texts(self) how_many(self) text_at(self,number) number_of(self,text)
+            grown(self,things) merged(self,other) compacted(self,numbers)""",
+        "StyleTable": """__init__(self,parts=((),(),(),(),()),rows=()) parts(self) rows(self) how_many(self)
+            style_at(self,number) number_of(self,style) part_number(self,sort,part) grown(self,things) merged(self,other)
+            compacted(self,numbers)""",
+    },
 }
+# What is read without a call, and what is called off the class.
+PROPERTIES = {("model", "Sheet"): "name cells merges columns rows frozen links hidden", ("model", "Book"): "sheets active names",
+              ("editmaps", "EditMap"): "pieces", ("tables", "TextTable"): "texts how_many", ("tables", "StyleTable"): "parts rows how_many"}
+CLASS_METHODS = {("editmaps", "EditMap"): "unchanged inserting deleting of"}
 
 
 def tree_of(name):
@@ -47,7 +78,7 @@ def tree_of(name):
 
 def heads_in(body):
     """The functions that a file or class itself defines, as the tables above tell them."""
-    return {node.name: f"{node.name}({','.join(ast.unparse(node.args).split(', '))})"
+    return {node.name: f"{node.name}({ast.unparse(node.args).replace(' ', '')})"
             for node in body if isinstance(node, ast.FunctionDef)}
 
 
@@ -73,6 +104,14 @@ class Interface(unittest.TestCase):
                 heads = heads_in(bodies[word].body)
                 for head in told.split():
                     self.assertEqual(heads.get(head.partition("(")[0]), head, word)
+
+    def test_properties_and_class_methods(self):
+        for told, decorator in ((PROPERTIES, "property"), (CLASS_METHODS, "classmethod")):
+            for (name, word), methods in told.items():
+                body = next(node for node in tree_of(name).body if isinstance(node, ast.ClassDef) and node.name == word).body
+                found = {node.name for node in body if isinstance(node, ast.FunctionDef)
+                         and [ast.unparse(one) for one in node.decorator_list] == [decorator]}
+                self.assertEqual(found, set(methods.split()))
 
 
 if __name__ == "__main__":

@@ -43,6 +43,31 @@ def a_book():
     return Book([data, more, Sheet("Last")], active=2, names=names)
 
 
+def random_book(chance):
+    """A book of two sheets with everything in the first rows and columns, and few things at the borders."""
+    def part():
+        return (chance.choice((*range(1, 12), 9990)), chance.choice((*range(1, 12), 690)), chance.random() < 0.5, chance.random() < 0.5)
+
+    def tree():
+        sheet = chance.choice((None, None, "Data", "More", "Gone"))
+        return chance.choice((("cell", sheet, part()), ("range", sheet, part(), part()), ("op", "+", ("cell", None, part()), ("minus", ("range", sheet, part(), part()))),
+                              ("range", sheet, (1, 1, True, False), (9999, 702, False, True))))
+
+    sheets = []
+    for name in ("Data", "More"):
+        merges = sorted({(row, column, row + chance.randint(0, 2), column + chance.randint(1, 2)) for row in (1, 4, 7, 10) for column in (1, 5)})
+        covered = {(row, column) for merge in merges for row in range(merge[0], merge[2] + 1) for column in range(merge[1], merge[3] + 1)
+                   if (row, column) != merge[:2]}
+        free = [(row, column) for row in range(1, 13) for column in range(1, 10) if (row, column) not in covered]
+        cells = [(place, chance.choice((None, 5, "x")), tree(), PLAIN) for place in sorted(chance.sample(free, 20))]
+        links = [(place, "x") for place in sorted(chance.sample(free, 8))]
+        settings = [[(number, number, True, PLAIN) for number in sorted(chance.sample(range(1, 13), 6))] for _ in range(2)]
+        sheets.append(Sheet(name, cells=cells, merges=merges, rows=settings[0], columns=settings[1], links=links,
+                            frozen=(chance.randint(0, 9), chance.randint(0, 9))))
+    names = [(None, "one", ("cell", "Data", (*part()[:2], True, True))), ("More", "two", ("cell", None, (*part()[:2], True, True)))]
+    return Book(sheets, names=names)
+
+
 class Trees(unittest.TestCase):
     def test_cells_go_with_their_rows(self):
         edit_map = EditMap.of((("insert", 3, 2), ("delete", 7, 1)))
@@ -90,11 +115,11 @@ class Trees(unittest.TestCase):
         self.assertEqual(caught(PastBorder, moved_tree, formula("ZZ1"), "D", "D", "columns", EditMap.inserting(702, 1)).place, ())
         self.assertEqual(moved_text("ZY1", "columns", EditMap.inserting(702, 1)), "ZY1")
         # A range that is not over all rows does not come to be so.
-        whole = EditMap.of((("insert", 5, 2), ("delete", 9999, 9999)))
         self.assertEqual(caught(PastBorder, moved_tree, formula("A1:A9997"), "D", "D", "rows", EditMap.inserting(5, 2)).place, ())
         self.assertEqual(moved_text("A1:A9996", "rows", EditMap.inserting(5, 2)), "A1:A9998")
         self.assertEqual(moved_text("A2:A9997", "rows", EditMap.inserting(5, 2)), "A2:A9999")
-        self.assertEqual(caught(PastBorder, moved_tree, formula("A1:A9998"), "D", "D", "rows", whole).place, ())
+        cut = EditMap.of((("insert", 5, 3), ("delete", 9998, 1)))
+        self.assertEqual(caught(PastBorder, moved_tree, formula("A1:A9997"), "D", "D", "rows", cut).place, ())
         self.assertEqual(caught(PastBorder, moved_tree, formula("B1:ZZ1"), "D", "D", "columns",
                                 EditMap.of((("delete", 1, 1), ("insert", 5, 1)))).place, ())
 
@@ -258,6 +283,26 @@ class Edits(unittest.TestCase):
             self.assertTrue(deleted(other, name, axis, at, many).is_same(a_book()))
         empty = Book([Sheet("a")])
         self.assertTrue(inserted(empty, "a", "rows", 9999, 9999).is_same(empty))
+
+    def test_edits_one_by_one_do_what_their_map_does(self):
+        chance = random.Random(24)
+        many = 0
+        for _ in range(150):
+            axis, name = chance.choice(("rows", "columns")), chance.choice(("Data", "More"))
+            edits = tuple((chance.choice(("insert", "delete")), chance.randint(1, 9), chance.randint(1, 3)) for _ in range(chance.randint(1, 5)))
+            book = random_book(chance)
+            one_by_one = book
+            try:
+                for word, at, count in edits:
+                    one_by_one = (inserted if word == "insert" else deleted)(one_by_one, name, axis, at, count)
+            except PastBorder:
+                continue
+            many += 1
+            at_once = moved(book, name, axis, EditMap.of(edits))
+            self.assertTrue(at_once.is_same(one_by_one))
+            self.assertEqual(touched(book, name, axis, EditMap.of(edits)),
+                             tuple(at + 1 for at, sheet in enumerate(book.sheets) if not sheet.is_same(at_once.sheets[at])))
+        self.assertGreater(many, 60)
 
     def test_wrong_arguments_in_their_order(self):
         book = a_book()
