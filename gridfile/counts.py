@@ -1,8 +1,8 @@
 """The least counts of the lines of books, and papers that show them without searching."""
 
 from gridfile.checks import is_integer, is_one_of, is_tuple_of
-from gridfile.errors import BadBook, BadPaper, BadSheet
-from gridfile.model import Book, Sheet
+from gridfile.errors import BadPaper, BadSheet
+from gridfile.model import Sheet, check_book
 from gridfile.offsets import form_of
 from gridfile.places import is_place, is_rectangle
 from gridfile.runs import check_matching, fewest_lines, greatest_matching, setting_runs
@@ -22,7 +22,7 @@ def formula_cells(sheet):
 
 def counts_of(book):
     """The list of the triples (sort, sheet number or 0, count) of the least counts of a book."""
-    _check_book(book)
+    check_book(book)
     counts = [(sort, 0, len(_things_of_book(book, sort))) for sort in BOOK_SORTS]
     for at, sheet in enumerate(book.sheets):
         counts.extend([(sort, at + 1, _count_of_sheet(sheet, sort)) for sort in SHEET_SORTS])
@@ -31,7 +31,7 @@ def counts_of(book):
 
 def paper_of(book):
     """A paper of all counts of a book, in their order."""
-    _check_book(book)
+    check_book(book)
     paper = [(sort, 0, tuple(_things_of_book(book, sort))) for sort in BOOK_SORTS]
     for at, sheet in enumerate(book.sheets):
         paper.extend([(sort, at + 1, _witnesses_of_sheet(sheet, sort)) for sort in SHEET_SORTS])
@@ -40,7 +40,7 @@ def paper_of(book):
 
 def check_paper(book, paper):
     """The list of the triples (sort, sheet number or 0, count) that the rows of a paper show."""
-    _check_book(book)
+    check_book(book)
     if not isinstance(paper, tuple):
         raise BadPaper(None)
     shown = []
@@ -58,17 +58,12 @@ def check_paper(book, paper):
 
 def is_shown(book, paper):
     """Whether a paper is right and shows each of the counts of a book."""
-    _check_book(book)
+    check_book(book)
     try:
         shown = check_paper(book, paper)
     except BadPaper:
         return False
     return all([count in shown for count in counts_of(book)])
-
-
-def _check_book(value):
-    if not isinstance(value, Book):
-        raise BadBook(value)
 
 
 def _things_of_book(book, sort):

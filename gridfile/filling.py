@@ -1,23 +1,26 @@
 """Rectangles of a sheet filled from a place, or copied, and what filling loses."""
 
-from gridfile.errors import BadPlace, BadRectangle, BadSheet, Covered, PastBorder, TooMuch
+from gridfile.errors import BadSheet, Covered, PastBorder, TooMuch
 from gridfile.model import MOST_CELLS, Sheet
 from gridfile.offsets import filled_tree, form_of, room_of_form, tree_of
-from gridfile.places import common, has_place, is_place, is_rectangle, places_in, size_of, without
+from gridfile.places import (check_place, check_rectangle, common, has_place, is_rectangle, places_in, size_of,
+                             without)
 from gridfile.values import PLAIN
 
 
 def filled(sheet, start, rectangle):
     """The sheet with the cell of one place, filled, at all places of a rectangle."""
     _check_sheet(sheet)
-    _check_place(start)
-    _check_rectangle(rectangle)
+    check_place(start)
+    check_rectangle(rectangle)
     value, formula, style = sheet.cell_at(start)
     others = [cell for cell in sheet.cells if not has_place(rectangle, cell[0])]
     if (value, formula, style) == (None, None, PLAIN):
         return sheet.changed(cells=others)
     if value is not None or formula is not None:
-        _check_covered(_first_covered(sheet, rectangle))
+        covered = _first_covered(sheet, rectangle)
+        if covered is not None:
+            raise Covered(covered)
     # Counted first, as a rectangle can have very many places.
     if size_of(rectangle) + len(others) > MOST_CELLS:
         raise TooMuch(MOST_CELLS)
@@ -29,8 +32,8 @@ def filled(sheet, start, rectangle):
 def copied(sheet, rectangle, goal):
     """The sheet with the cells of a rectangle, filled, also at the places from another one on."""
     _check_sheet(sheet)
-    _check_rectangle(rectangle)
-    _check_place(goal)
+    check_rectangle(rectangle)
+    check_place(goal)
     down, along = goal[0] - rectangle[0], goal[1] - rectangle[1]
     target = (*goal, rectangle[2] + down, rectangle[3] + along)
     if not is_rectangle(target):
@@ -60,8 +63,8 @@ def losing_parts(sheet, start, rectangle):
 def _room_to_fill(sheet, start, rectangle):
     """The room of the formula of a place, which is at least the rectangle if there is no formula."""
     _check_sheet(sheet)
-    _check_place(start)
-    _check_rectangle(rectangle)
+    check_place(start)
+    check_rectangle(rectangle)
     formula = sheet.cell_at(start)[1]
     return rectangle if formula is None else room_of_form(form_of(formula, start))
 
@@ -69,21 +72,6 @@ def _room_to_fill(sheet, start, rectangle):
 def _check_sheet(value):
     if not isinstance(value, Sheet):
         raise BadSheet(value)
-
-
-def _check_place(value):
-    if not is_place(value):
-        raise BadPlace(value)
-
-
-def _check_rectangle(value):
-    if not is_rectangle(value):
-        raise BadRectangle(value)
-
-
-def _check_covered(place):
-    if place is not None:
-        raise Covered(place)
 
 
 def _first_covered(sheet, rectangle):

@@ -1,25 +1,25 @@
 """Relative forms of trees: their texts, the rooms in which nothing is lost, and filling."""
 
-from gridfile.errors import BadForm, BadPlace, BadTree, NoPart
+from gridfile.errors import BadForm, NoPart
 from gridfile.growing import grown_tree
 from gridfile.nodes import REFERENCES, references_of
 from gridfile.offsets import filled_tree, form_of, room_of_form, room_of_reference, tree_of
-from gridfile.places import is_place
+from gridfile.places import check_place
 from gridfile.printing import printed
-from gridfile.trees import is_form, is_tree, node_at
+from gridfile.trees import check_tree, is_form, node_at
 
 
 def relative(tree, place):
     """The relative form of a tree at a place."""
-    _check_tree(tree)
-    _check_place(place)
+    check_tree(tree)
+    check_place(place)
     return form_of(tree, place)
 
 
 def absolute(form, place):
     """The tree that a form gives at a place."""
     _check_form(form)
-    _check_place(place)
+    check_place(place)
     return tree_of(form, place)
 
 
@@ -65,29 +65,19 @@ def lost_by(tree, start, goal):
 
 def same_form(tree, place, other, goal):
     """Whether a tree at one place and another one at another place have the same form."""
-    _check_tree(tree)
-    _check_place(place)
-    _check_tree(other)
-    _check_place(goal)
+    check_tree(tree)
+    check_place(place)
+    check_tree(other)
+    check_place(goal)
     return form_of(tree, place) == form_of(other, goal)
 
 
 def _check_filling(tree, start, goal):
-    _check_tree(tree)
-    _check_place(start)
-    _check_place(goal)
-
-
-def _check_tree(value):
-    if not is_tree(value):
-        raise BadTree(value)
+    check_tree(tree)
+    check_place(start)
+    check_place(goal)
 
 
 def _check_form(value):
     if not is_form(value):
         raise BadForm(value)
-
-
-def _check_place(value):
-    if not is_place(value):
-        raise BadPlace(value)

@@ -5,14 +5,13 @@ from gridfile.cutting import check_text, cut
 from gridfile.errors import BadFormula, BadTree, NoPart
 from gridfile.growing import grown_tree
 from gridfile.printing import printed
-from gridfile.trees import is_tree
+from gridfile.trees import check_tree
 
 
 def read_formula(text):
     """The tree of a formula."""
     tree = grown_tree(text, False)
-    if not is_tree(tree):
-        raise BadTree(tree)
+    check_tree(tree)
     return tree
 
 
@@ -27,8 +26,7 @@ def is_formula(value):
 
 def print_formula(tree):
     """The printed formula of a tree."""
-    if not is_tree(tree):
-        raise BadTree(tree)
+    check_tree(tree)
     return "=" + printed(tree)
 
 

@@ -2,12 +2,12 @@
 
 from gridfile.checks import is_integer, is_row
 from gridfile.definitions import wrong_name
-from gridfile.errors import (BadActive, BadCells, BadColumns, BadFrozen, BadHidden, BadLinks, BadMerges, BadNames,
-                             BadNumber, BadPlace, BadRows, BadSheetName, BadSheets, BadStyle, BadTree, BadValue,
+from gridfile.errors import (BadActive, BadBook, BadCells, BadColumns, BadFrozen, BadHidden, BadLinks, BadMerges,
+                             BadNames, BadNumber, BadPlace, BadRows, BadSheetName, BadSheets, BadStyle, BadValue,
                              Covered, NoSheet, TooMuch)
 from gridfile.parts import (is_covered_by, is_frozen, merge_with, wrong_cell, wrong_link, wrong_merge, wrong_setting)
-from gridfile.places import MOST_COLUMN, MOST_ROW, is_place
-from gridfile.trees import is_tree
+from gridfile.places import MOST_COLUMN, MOST_ROW, check_place
+from gridfile.trees import check_tree
 from gridfile.values import PLAIN, is_style, is_value, same
 from gridfile.words import is_sheet_name
 
@@ -81,22 +81,22 @@ class Sheet:
 
     def cell_at(self, place):
         """The triple (value, formula, style) of a place."""
-        _check_place(place)
+        check_place(place)
         return self._by_place.get(place, (None, None, PLAIN))
 
     def merge_at(self, place):
         """The merge that has the place, or None."""
-        _check_place(place)
+        check_place(place)
         return merge_with(self._merges, place)
 
     def is_covered(self, place):
         """Whether the place lies in a merge, and is not its first one."""
-        _check_place(place)
+        check_place(place)
         return is_covered_by(self._merges, place)
 
     def link_at(self, place):
         """The target of the link of a place, or None."""
-        _check_place(place)
+        check_place(place)
         return self._targets.get(place)
 
     def column_setting(self, column):
@@ -113,11 +113,11 @@ class Sheet:
 
     def with_cell(self, place, value, formula=None, style=PLAIN):
         """A new sheet with another cell, or none, at this place."""
-        _check_place(place)
+        check_place(place)
         if not is_value(value):
             raise BadValue(value)
-        if formula is not None and not is_tree(formula):
-            raise BadTree(formula)
+        if formula is not None:
+            check_tree(formula)
         if not is_style(style):
             raise BadStyle(style)
         if (value is not None or formula is not None) and self.is_covered(place):
@@ -222,6 +222,12 @@ class Book:
         return self._active == other.active and same(self._names, other.names)
 
 
+def check_book(value):
+    """Raises BadBook for what is no book."""
+    if not isinstance(value, Book):
+        raise BadBook(value)
+
+
 def with_right_names(book, names):
     """The book with other names, a tuple that is known to be right: checking it again would take long."""
     made = Book(book.sheets)
@@ -254,11 +260,6 @@ def _check_parts(name, cells, merges, columns, rows, frozen, links, hidden):
         raise BadLinks(wrong[0])
     if not isinstance(hidden, bool):
         raise BadHidden(hidden)
-
-
-def _check_place(value):
-    if not is_place(value):
-        raise BadPlace(value)
 
 
 def _check_words(parts, known):

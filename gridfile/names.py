@@ -2,8 +2,8 @@
 
 from gridfile.checks import is_row
 from gridfile.definitions import MOST_NAMES, can_define, first_ring, is_definition, ring_closed
-from gridfile.errors import BadBook, BadNames, BadTree, BadWord, NoName, RingOfNames, TooMuch
-from gridfile.model import Book, with_right_names
+from gridfile.errors import BadNames, BadTree, BadWord, NoName, RingOfNames, TooMuch
+from gridfile.model import check_book, with_right_names
 from gridfile.nodes import words_of
 from gridfile.words import is_name_word
 
@@ -22,7 +22,7 @@ def uses_of(book, scope, word):
 
 def order_of(book):
     """The least order of the names: a tuple of pairs (scope, word)."""
-    _check_book(book)
+    check_book(book)
     trees = _trees_of(book)
     users = {pair: [] for pair in trees}
     missing = {}
@@ -90,13 +90,8 @@ def users_of(book, scope, word):
     return users
 
 
-def _check_book(book):
-    if not isinstance(book, Book):
-        raise BadBook(book)
-
-
 def _check_scope(book, scope):
-    _check_book(book)
+    check_book(book)
     if scope is not None:
         # It raises the error if there is no such sheet.
         book.number_of(scope)

@@ -22,6 +22,18 @@ def is_rectangle(value):
     return top <= bottom and left <= right
 
 
+def check_place(value):
+    """Raises BadPlace for what is no place."""
+    if not is_place(value):
+        raise BadPlace(value)
+
+
+def check_rectangle(value):
+    """Raises BadRectangle for what is no rectangle."""
+    if not is_rectangle(value):
+        raise BadRectangle(value)
+
+
 def column_name(column):
     """The name of a column: A to Z, AA to ZZ."""
     if not is_integer(column, 1, MOST_COLUMN):
@@ -34,13 +46,13 @@ def column_name(column):
 
 def place_name(place):
     """The name of a place, like AB12."""
-    _check_place(place)
+    check_place(place)
     return f"{column_name(place[1])}{place[0]}"
 
 
 def rectangle_name(rectangle):
     """The name of a rectangle, like A1:B2."""
-    _check_rectangle(rectangle)
+    check_rectangle(rectangle)
     return f"{place_name(rectangle[:2])}:{place_name(rectangle[2:])}"
 
 
@@ -70,44 +82,44 @@ def rectangle_at(text):
 
 def rectangle_of(one, other):
     """The least rectangle that has both places."""
-    _check_place(one)
-    _check_place(other)
+    check_place(one)
+    check_place(other)
     return (*_least(one, other), *_greatest(one, other))
 
 
 def has_place(rectangle, place):
     """Whether the place lies in the rectangle."""
-    _check_rectangle(rectangle)
-    _check_place(place)
+    check_rectangle(rectangle)
+    check_place(place)
     top, left, bottom, right = rectangle
     return top <= place[0] <= bottom and left <= place[1] <= right
 
 
 def common(one, other):
     """The rectangle of the places that both have, or None."""
-    _check_rectangle(one)
-    _check_rectangle(other)
+    check_rectangle(one)
+    check_rectangle(other)
     shared = (*_greatest(one[:2], other[:2]), *_least(one[2:], other[2:]))
     return shared if is_rectangle(shared) else None
 
 
 def hull(one, other):
     """The least rectangle that contains both."""
-    _check_rectangle(one)
-    _check_rectangle(other)
+    check_rectangle(one)
+    check_rectangle(other)
     return (*_least(one[:2], other[:2]), *_greatest(one[2:], other[2:]))
 
 
 def size_of(rectangle):
     """How many places the rectangle has."""
-    _check_rectangle(rectangle)
+    check_rectangle(rectangle)
     top, left, bottom, right = rectangle
     return (bottom - top + 1) * (right - left + 1)
 
 
 def places_in(rectangle):
     """Yields the places of the rectangle, by rows."""
-    _check_rectangle(rectangle)
+    check_rectangle(rectangle)
     top, left, bottom, right = rectangle
     for row in range(top, bottom + 1):
         for column in range(left, right + 1):
@@ -125,16 +137,6 @@ def without(one, other):
     behind = (top, right + 1, bottom, one[3])
     below = (bottom + 1, one[1], one[2], one[3])
     return tuple([part for part in (above, before, behind, below) if is_rectangle(part)])
-
-
-def _check_place(value):
-    if not is_place(value):
-        raise BadPlace(value)
-
-
-def _check_rectangle(value):
-    if not is_rectangle(value):
-        raise BadRectangle(value)
 
 
 def _least(one, other):

@@ -2,22 +2,20 @@
 
 from gridfile.checks import is_integer, is_one_of
 from gridfile.editmaps import EditMap
-from gridfile.errors import (BadBook, BadFrozen, BadMap, BadNumber, BadPlace, BadRectangle, BadSheetName, BadTree,
-                             BadWord, Dangling, PastBorder, Taken)
-from gridfile.model import Book
+from gridfile.errors import BadFrozen, BadMap, BadNumber, BadSheetName, BadWord, Dangling, PastBorder, Taken
+from gridfile.model import Book, check_book
 from gridfile.moves import (AXES, ITEM_OF, frozen_behind, merge_behind, most_of, number_behind, place_behind,
                             tree_behind)
 from gridfile.nodes import references_of, with_references
 from gridfile.parts import is_frozen
-from gridfile.places import is_place, is_rectangle
-from gridfile.trees import is_tree
+from gridfile.places import check_place, check_rectangle
+from gridfile.trees import check_tree
 from gridfile.words import is_sheet_name
 
 
 def moved_tree(tree, home, name, axis, edit_map):
     """The tree of the sheet home, or of no sheet, when the sheet name is moved."""
-    if not is_tree(tree):
-        raise BadTree(tree)
+    check_tree(tree)
     if home is not None and not is_sheet_name(home):
         raise BadSheetName(home)
     if not is_sheet_name(name):
@@ -28,7 +26,7 @@ def moved_tree(tree, home, name, axis, edit_map):
 
 def moved(book, name, axis, edit_map):
     """The book when a sheet of it is moved."""
-    _check_book(book)
+    check_book(book)
     book.number_of(name)
     _check_map(axis, edit_map)
     return _moved_book(book, name, axis, edit_map)
@@ -62,16 +60,14 @@ def names_touched(book, name, axis, edit_map):
 
 def moved_place(place, axis, edit_map):
     """Where a place comes to, or None if it vanishes."""
-    if not is_place(place):
-        raise BadPlace(place)
+    check_place(place)
     _check_map(axis, edit_map)
     return place_behind(place, axis, edit_map, place)
 
 
 def moved_merge(rectangle, axis, edit_map):
     """What becomes of a merge, or None if it vanishes."""
-    if not is_rectangle(rectangle):
-        raise BadRectangle(rectangle)
+    check_rectangle(rectangle)
     _check_map(axis, edit_map)
     return merge_behind(rectangle, axis, edit_map, rectangle)
 
@@ -86,7 +82,7 @@ def moved_frozen(frozen, axis, edit_map):
 
 def renamed(book, name, other):
     """The book with another name of a sheet, also in references and scopes."""
-    _check_book(book)
+    check_book(book)
     number = book.number_of(name)
     if not is_sheet_name(other):
         raise BadSheetName(other)
@@ -99,11 +95,6 @@ def renamed(book, name, other):
     names = [(other if scope == name else scope, word, _renamed_tree(tree, name, other))
              for scope, word, tree in book.names]
     return Book(sheets, active=book.active, names=names)
-
-
-def _check_book(value):
-    if not isinstance(value, Book):
-        raise BadBook(value)
 
 
 def _check_axis(value):
@@ -119,7 +110,7 @@ def _check_map(axis, edit_map):
 
 def _check_edit(book, name, axis, at, many):
     """Raises the errors that inserting and deleting have in common."""
-    _check_book(book)
+    check_book(book)
     book.number_of(name)
     _check_axis(axis)
     for number in (at, many):

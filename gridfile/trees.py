@@ -32,6 +32,12 @@ def wrong_at(value):
     return _first_wrong(value, False)
 
 
+def check_tree(value):
+    """Raises BadTree for what is no tree."""
+    if not is_tree(value):
+        raise BadTree(value)
+
+
 def depth(tree):
     """How deep a tree or form is; one without trees in it is 1 deep."""
     _check_either(tree)
@@ -71,11 +77,11 @@ def node_at(tree, path):
 
 def replaced(tree, path, other):
     """The tree with another one where the path leads."""
-    _check_tree(tree)
+    check_tree(tree)
     _led_to(tree, path)
-    _check_tree(other)
+    check_tree(other)
     result = with_tree(tree, path, other)
-    _check_tree(result)
+    check_tree(result)
     return result
 
 
@@ -87,7 +93,7 @@ def references(tree):
 
 def rectangle_of_reference(tree):
     """The rectangle of a cell or range."""
-    _check_tree(tree)
+    check_tree(tree)
     if tree[0] not in ("cell", "range"):
         raise BadTree(tree)
     return rectangle_of(tree[2][:2], tree[-1][:2])
@@ -119,7 +125,7 @@ def lost_in(tree):
 
 def with_sheet(tree, old, new):
     """The tree with the sheet new (or None) in all references that have the sheet old (or None)."""
-    _check_tree(tree)
+    check_tree(tree)
     for name in (old, new):
         if name is not None and not is_sheet_name(name):
             raise BadSheetName(name)
@@ -127,19 +133,14 @@ def with_sheet(tree, old, new):
     for path, node in references_of(tree):
         if node[1] == old:
             result = with_tree(result, path, (node[0], new, *node[2:]))
-    _check_tree(result)
+    check_tree(result)
     return result
 
 
 def is_all_fixed(tree):
     """Whether all parts of references in a tree are fixed in both numbers."""
-    _check_tree(tree)
+    check_tree(tree)
     return has_fixed_parts_only(tree)
-
-
-def _check_tree(value):
-    if not is_tree(value):
-        raise BadTree(value)
 
 
 def _check_either(value):
