@@ -24,7 +24,7 @@ def grown_tree(text, is_form):
     for kind, at, word in cut(text, is_form):
         if kind in ("open text", "open sheet"):
             raise BadFormula(len(text) if growth.can_take(kind[len("open "):], word) else at)
-        if not growth.can_take(kind, word) or not growth.is_taken(kind, word):
+        if not growth.can_take(kind, word) or not growth.take(kind, word):
             raise BadFormula(at)
     if not growth.is_done():
         raise BadFormula(len(text))
@@ -64,12 +64,12 @@ class Growth:
             return self._frames != [] and self._frames[-1][0] is not None and self._frames[-1][1] + 1 < MOST_CALLED
         return kind == "sign" or (kind, self._state) in (("!", "word"), (":", "part"))
 
-    def is_taken(self, kind, word):
+    def take(self, kind, word):
         """Takes a token that can stand here; whether it is right by itself."""
         if kind == "part":
-            return self._is_part_taken(word)
+            return self._take_part(word)
         if kind in OPERANDS:
-            return self._is_operand_taken(_operand(kind, word))
+            return self._take_operand(_operand(kind, word))
         if kind == "sign":
             self._take_sign(word)
         elif kind in ("(", "function"):
@@ -93,14 +93,14 @@ class Growth:
         self._complete(1)
         return self._trees[0]
 
-    def _is_operand_taken(self, tree):
+    def _take_operand(self, tree):
         if tree is None:
             return False
         self._trees.append(tree)
         self._state = STATES.get(tree[0], "value")
         return True
 
-    def _is_part_taken(self, word):
+    def _take_part(self, word):
         part = _form_part(word) if self._is_form else _part(word)
         if part is None:
             return False
