@@ -58,7 +58,6 @@ def check_paper(book, paper):
 
 def is_shown(book, paper):
     """Whether a paper is right and shows each of the counts of a book."""
-    check_book(book)
     try:
         shown = check_paper(book, paper)
     except BadPaper:

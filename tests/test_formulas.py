@@ -276,7 +276,7 @@ class Tokens(unittest.TestCase):
 
     def test_wrong_texts(self):
         told = {"": 0, "1": 0, " =": 0, "=1@": 2, "=@'": 1, "=1 #REF": 3, "=A$": 2, "=\t": 1, "=1\n": 2, "=\u00e9": 1, "=1.5": 2,
-                "=R[1]": 2, '="': 2, '=1 2)"abc': 9, '="a""b': 6, "=) 'abc": 7, "='": 2, '="@': 3, "='a\"": 4, "=$": 1, "=~": 1}
+                "=R[1]": 2, '="': 2, '=1 2)"abc': 9, '="a""b': 6, "=) 'abc": 7, "='": 2, '="@': 3, "='a\"": 4, "=$": 1, "=~": 1, "=$1": 1, "=1+$$1": 3, "=$a1": 1}
         for text, place in told.items():
             self.assertEqual(caught(BadFormula, tokens, text).place, place, text)
 
