@@ -12,6 +12,15 @@ def is_integer(value, least, most):
     return isinstance(value, int) and not isinstance(value, bool) and least <= value <= most
 
 
+def number_in(item, least, most):
+    """The integer from least to most that a value of any kind tells, without zeros in front, or None."""
+    # What is longer is too great in any case, and not worth reading.
+    if not is_text(item, 1, len(str(most)), DIGITS) or item[0] == "0" and item != "0":
+        return None
+    number = int(item)
+    return number if least <= number <= most else None
+
+
 def is_made_of(text, signs):
     """Whether a string has no other characters than these."""
     # Stripping stops at the first other character, so nothing is left only if there is none.

@@ -2,6 +2,7 @@
 
 from gridfile.checks import is_integer, is_one_of, is_tuple_of
 from gridfile.errors import BadPaper, BadSheet
+from gridfile.firsts import each_once, styles_in, texts_in
 from gridfile.model import Sheet, check_book
 from gridfile.offsets import form_of
 from gridfile.places import is_place, is_rectangle
@@ -68,16 +69,11 @@ def is_shown(book, paper):
 def _things_of_book(book, sort):
     """The list of the different texts, styles or parts of a book, each once."""
     if sort == "strings":
-        return _each_once([cell[1] for sheet in book.sheets for cell in sheet.cells if isinstance(cell[1], str)])
-    styles = [item[3] for sheet in book.sheets for item in (*sheet.cells, *sheet.columns, *sheet.rows)]
+        return texts_in(book)
     if sort == "styles":
-        return _each_once([style for style in styles if style != PLAIN])
+        return styles_in(book)
     at = PART_SORTS.index(sort)
-    return _each_once([style[at] for style in styles if style[at] != PLAIN[at]])
-
-
-def _each_once(things):
-    return list({thing: True for thing in things})
+    return each_once([style[at] for style in styles_in(book) if style[at] != PLAIN[at]])
 
 
 def _things_of_sheet(sheet, sort):

@@ -32,7 +32,7 @@ def line_text(line):
     """The written form of a line."""
     if not is_line(line):
         raise BadLine(line)
-    return " ".join([_item_text(item) for item in line])
+    return _written(line)
 
 
 def line_of(text):
@@ -56,7 +56,7 @@ def lines_text(lines):
     for at, line in enumerate(lines):
         if not is_line(line):
             raise BadLine(at)
-    return "\n".join([line_text(line) for line in lines])
+    return "\n".join([_written(line) for line in lines])
 
 
 def lines_of(text):
@@ -70,6 +70,10 @@ def _is_item(value):
     if isinstance(value, tuple):
         return len(value) == 1 and is_string(value[0])
     return is_word(value)
+
+
+def _written(line):
+    return " ".join([_item_text(item) for item in line])
 
 
 def _item_text(item):

@@ -5,7 +5,8 @@ from gridfile.definitions import wrong_name
 from gridfile.errors import (BadActive, BadBook, BadCells, BadColumns, BadFrozen, BadHidden, BadLinks, BadMerges,
                              BadNames, BadNumber, BadPlace, BadRows, BadSheetName, BadSheets, BadStyle, BadValue,
                              Covered, NoSheet, TooMuch)
-from gridfile.parts import (is_covered_by, is_frozen, merge_with, wrong_cell, wrong_link, wrong_merge, wrong_setting)
+from gridfile.parts import (is_covered_by, is_frozen, item_at, merge_with, with_item, wrong_cell, wrong_link,
+                            wrong_merge, wrong_setting)
 from gridfile.places import MOST_COLUMN, MOST_ROW, check_place
 from gridfile.trees import check_tree
 from gridfile.values import PLAIN, is_style, is_value, same
@@ -21,23 +22,21 @@ class Sheet:
     """A sheet; it never changes."""
 
     def __init__(self, name, *, cells=(), merges=(), columns=(), rows=(), frozen=(0, 0), links=(), hidden=False):
-        _check_parts(name, cells, merges, columns, rows, frozen, links, hidden)
-        self._keep(name, tuple(cells), tuple(merges), tuple(columns), tuple(rows), frozen, tuple(links), hidden)
+        told = {"name": name, "cells": cells, "merges": merges, "columns": columns, "rows": rows, "frozen": frozen,
+                "links": links, "hidden": hidden}
+        _check_parts(told, SHEET_PARTS)
+        self._keep(told)
 
-    def _keep(self, name, cells, merges, columns, rows, frozen, links, hidden):
-        """Takes parts that are known to be right."""
-        self._name = name
-        self._cells = cells
-        self._merges = merges
-        self._columns = columns
-        self._rows = rows
-        self._frozen = frozen
-        self._links = links
-        self._hidden = hidden
-        self._by_place = {cell[0]: cell[1:] for cell in cells}
-        self._by_column = {setting[0]: setting[1:] for setting in columns}
-        self._by_row = {setting[0]: setting[1:] for setting in rows}
-        self._targets = {link[0]: link[1] for link in links}
+    def _keep(self, told):
+        """Takes parts that are known to be right, by their names."""
+        self._name = told["name"]
+        self._cells = tuple(told["cells"])
+        self._merges = tuple(told["merges"])
+        self._columns = tuple(told["columns"])
+        self._rows = tuple(told["rows"])
+        self._frozen = told["frozen"]
+        self._links = tuple(told["links"])
+        self._hidden = told["hidden"]
 
     @property
     def name(self):
@@ -82,7 +81,7 @@ class Sheet:
     def cell_at(self, place):
         """The triple (value, formula, style) of a place."""
         check_place(place)
-        return self._by_place.get(place, (None, None, PLAIN))
+        return item_at(self._cells, place, (None, None, PLAIN))
 
     def merge_at(self, place):
         """The merge that has the place, or None."""
@@ -97,19 +96,19 @@ class Sheet:
     def link_at(self, place):
         """The target of the link of a place, or None."""
         check_place(place)
-        return self._targets.get(place)
+        return item_at(self._links, place, (None,))[0]
 
     def column_setting(self, column):
         """The triple (size, hidden, style) of a column."""
         if not is_integer(column, 1, MOST_COLUMN):
             raise BadPlace(column)
-        return self._by_column.get(column, (None, False, PLAIN))
+        return item_at(self._columns, column, (None, False, PLAIN))
 
     def row_setting(self, row):
         """The triple (size, hidden, style) of a row."""
         if not is_integer(row, 1, MOST_ROW):
             raise BadPlace(row)
-        return self._by_row.get(row, (None, False, PLAIN))
+        return item_at(self._rows, row, (None, False, PLAIN))
 
     def with_cell(self, place, value, formula=None, style=PLAIN):
         """A new sheet with another cell, or none, at this place."""
@@ -122,25 +121,22 @@ class Sheet:
             raise BadStyle(style)
         if (value is not None or formula is not None) and self.is_covered(place):
             raise Covered(place)
-        cells = _with_cell(self._cells, (place, value, formula, style))
+        cell = (place, value, formula, style)
+        cells = with_item(self._cells, place, None if cell[1:] == (None, None, PLAIN) else cell)
         if len(cells) > MOST_CELLS:
             raise TooMuch(MOST_CELLS)
-        # The other parts are right already; checking them all again would take long.
-        made = Sheet(self._name)
-        made._keep(self._name, cells, self._merges, self._columns, self._rows, self._frozen, self._links, self._hidden)
-        return made
+        return with_right_parts(self, cells=cells)
 
     def changed(self, **parts):
         """A new sheet with other parts, by the names of the constructor."""
         _check_words(parts, SHEET_PARTS)
-        told = {"name": self._name, "cells": self._cells, "merges": self._merges, "columns": self._columns,
-                "rows": self._rows, "frozen": self._frozen, "links": self._links, "hidden": self._hidden, **parts}
-        return Sheet(told["name"], cells=told["cells"], merges=told["merges"], columns=told["columns"],
-                     rows=told["rows"], frozen=told["frozen"], links=told["links"], hidden=told["hidden"])
+        # Its own parts are right already, but merges may cover what stands in them.
+        _check_parts({**_told_parts(self), **parts}, SHEET_PARTS if "merges" in parts else tuple(parts))
+        return with_right_parts(self, **parts)
 
     def is_same(self, other):
         """Whether other is a sheet with the same parts."""
-        return isinstance(other, Sheet) and same(_parts_of(self), _parts_of(other))
+        return isinstance(other, Sheet) and same(tuple(_told_parts(self).values()), tuple(_told_parts(other).values()))
 
 
 class Book:
@@ -202,9 +198,7 @@ class Book:
             raise BadSheets(number - 1)
         sheets = (*self._sheets[:number - 1], sheet, *self._sheets[number:])
         # The names of sheets stay, so the defined names are right still.
-        made = Book(sheets)
-        made._keep(sheets, self._active, self._names)
-        return made
+        return right_book(sheets, self._active, self._names)
 
     def changed(self, **parts):
         """A new book with other parts, by the names of the constructor."""
@@ -228,38 +222,45 @@ def check_book(value):
         raise BadBook(value)
 
 
-def with_right_names(book, names):
-    """The book with other names, a tuple that is known to be right: checking it again would take long."""
-    made = Book(book.sheets)
-    made._keep(book.sheets, book.active, names)
+def with_right_parts(sheet, **parts):
+    """The sheet with other parts that are known to be right: checking them again would take long."""
+    made = Sheet(sheet.name)
+    made._keep({**_told_parts(sheet), **parts})
     return made
 
 
-def _check_parts(name, cells, merges, columns, rows, frozen, links, hidden):
-    """Raises the first error that the constructor of a sheet raises."""
-    if not is_sheet_name(name):
-        raise BadSheetName(name)
-    wrong_of_merges = wrong_merge(merges)
+def right_book(sheets, active, names):
+    """The book of parts, in tuples, of which the sheets alone are checked: checking the names would take long."""
+    made = Book(sheets)
+    made._keep(sheets, active, names)
+    return made
+
+
+def _check_parts(told, words):
+    """Raises the first error that the constructor raises, if only the parts with these words can be wrong."""
+    if "name" in words and not is_sheet_name(told["name"]):
+        raise BadSheetName(told["name"])
+    wrong_of_merges = wrong_merge(told["merges"]) if "merges" in words else None
     # Only right merges cover places.
-    covering = merges if wrong_of_merges is None else ()
-    wrong = wrong_cell(cells, covering, MOST_CELLS)
+    covering = told["merges"] if wrong_of_merges is None else ()
+    wrong = wrong_cell(told["cells"], covering, MOST_CELLS) if "cells" in words else None
     if wrong is not None:
         raise BadCells(wrong[0])
     if wrong_of_merges is not None:
         raise BadMerges(wrong_of_merges[0])
-    wrong = wrong_setting(columns, MOST_COLUMN)
+    wrong = wrong_setting(told["columns"], MOST_COLUMN) if "columns" in words else None
     if wrong is not None:
         raise BadColumns(wrong[0])
-    wrong = wrong_setting(rows, MOST_ROW)
+    wrong = wrong_setting(told["rows"], MOST_ROW) if "rows" in words else None
     if wrong is not None:
         raise BadRows(wrong[0])
-    if not is_frozen(frozen):
-        raise BadFrozen(frozen)
-    wrong = wrong_link(links, covering)
+    if not is_frozen(told["frozen"]):
+        raise BadFrozen(told["frozen"])
+    wrong = wrong_link(told["links"], covering) if "links" in words else None
     if wrong is not None:
         raise BadLinks(wrong[0])
-    if not isinstance(hidden, bool):
-        raise BadHidden(hidden)
+    if not isinstance(told["hidden"], bool):
+        raise BadHidden(told["hidden"])
 
 
 def _check_words(parts, known):
@@ -268,18 +269,10 @@ def _check_words(parts, known):
             raise BadNumber(word)
 
 
-def _with_cell(cells, cell):
-    """The cells with another one at its place, or without one if it says only what holds anyway."""
-    place = cell[0]
-    before = [one for one in cells if one[0] < place]
-    behind = [one for one in cells if one[0] > place]
-    if cell[1:] == (None, None, PLAIN):
-        return (*before, *behind)
-    return (*before, cell, *behind)
-
-
-def _parts_of(sheet):
-    return (sheet.name, sheet.cells, sheet.merges, sheet.columns, sheet.rows, sheet.frozen, sheet.links, sheet.hidden)
+def _told_parts(sheet):
+    """The parts of a sheet by the names of the constructor."""
+    return {"name": sheet.name, "cells": sheet.cells, "merges": sheet.merges, "columns": sheet.columns,
+            "rows": sheet.rows, "frozen": sheet.frozen, "links": sheet.links, "hidden": sheet.hidden}
 
 
 def _wrong_sheet(sheets):

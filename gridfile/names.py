@@ -3,7 +3,7 @@
 from gridfile.checks import is_row
 from gridfile.definitions import MOST_NAMES, can_define, first_ring, is_definition, ring_closed
 from gridfile.errors import BadNames, BadTree, BadWord, NoName, RingOfNames, TooMuch
-from gridfile.model import check_book, with_right_names
+from gridfile.model import check_book, right_book
 from gridfile.nodes import words_of
 from gridfile.words import is_name_word
 
@@ -68,13 +68,14 @@ def with_name(book, scope, word, tree):
     ring = ring_closed({item[1]: words_of(item[2]) for item in names if item[0] == scope}, word)
     if ring is not None:
         raise RingOfNames(tuple([(scope, inner) for inner in ring]))
-    return with_right_names(book, _in_order(book, names))
+    return right_book(book.sheets, book.active, names_in_order(book.sheets, names))
 
 
 def without_name(book, scope, word):
     """A new book without this defined name."""
     _check_name(book, scope, word)
-    return with_right_names(book, tuple([item for item in book.names if item[:2] != (scope, word)]))
+    names = tuple([item for item in book.names if item[:2] != (scope, word)])
+    return right_book(book.sheets, book.active, names)
 
 
 def users_of(book, scope, word):
@@ -90,6 +91,15 @@ def users_of(book, scope, word):
     return users
 
 
+def names_in_order(sheets, names):
+    """The tuple of these defined names in the order that they have in a book with these sheets."""
+    ranks = {None: 0}
+    for at, sheet in enumerate(sheets):
+        ranks[sheet.name] = at + 1
+    placed = sorted([(ranks[item[0]], item[1], item) for item in names], key=lambda row: (row[0], row[1]))
+    return tuple([row[2] for row in placed])
+
+
 def _check_scope(book, scope):
     check_book(book)
     if scope is not None:
@@ -101,15 +111,6 @@ def _check_name(book, scope, word):
     _check_scope(book, scope)
     if not isinstance(word, str) or (scope, word) not in _trees_of(book):
         raise NoName((scope, word))
-
-
-def _in_order(book, names):
-    """The tuple of these defined names in the order of the book."""
-    ranks = {None: 0}
-    for at, sheet in enumerate(book.sheets):
-        ranks[sheet.name] = at + 1
-    placed = sorted([(ranks[item[0]], item[1], item) for item in names], key=lambda row: (row[0], row[1]))
-    return tuple([row[2] for row in placed])
 
 
 def _trees_of(book):

@@ -24,6 +24,31 @@ def is_covered_by(merges, place):
     return merge is not None and merge[:2] != place
 
 
+def item_at(items, at, default):
+    """What stands behind a number or place in the item that begins with it, or else the default."""
+    index = _index_of(items, at)
+    return items[index][1:] if index < len(items) and items[index][0] == at else default
+
+
+def with_item(items, at, item):
+    """The tuple of the items with another one that begins with this number or place, or without one for None."""
+    index = _index_of(items, at)
+    following = index + 1 if index < len(items) and items[index][0] == at else index
+    return (*items[:index], *([] if item is None else [item]), *items[following:])
+
+
+def meet(one, other):
+    """Whether two rectangles have a place in common."""
+    return one[0] <= other[2] and other[0] <= one[2] and one[1] <= other[3] and other[1] <= one[3]
+
+
+def covers(merge, rectangle):
+    """Whether a merge covers a place of a rectangle: whether both have one that is not the merge's first one."""
+    if not meet(merge, rectangle):
+        return False
+    return (min(merge[2], rectangle[2]), min(merge[3], rectangle[3])) != merge[:2]
+
+
 def wrong_cell(cells, merges, most):
     """What is wrong with the cells of a sheet with these merges."""
     return _wrong_item(cells, lambda item: _is_cell(item) and not _is_full_and_covered(item, merges), most)
@@ -46,7 +71,7 @@ def wrong_merge(merges):
     for at, merge in enumerate(merges):
         if at == MOST_MERGES or not is_rectangle(merge) or merge[:2] == merge[2:]:
             return (at,)
-        if at > 0 and merge <= merges[at - 1] or any(_meet(one, merge) for one in merges[:at]):
+        if at > 0 and merge <= merges[at - 1] or any(meet(one, merge) for one in merges[:at]):
             return (at,)
     return None
 
@@ -60,9 +85,29 @@ def is_setting(value, most):
     """Whether a value of any kind is a setting of a column or row, of which this is the greatest number."""
     if not is_tuple_of(value, 4) or not is_integer(value[0], 1, most) or not isinstance(value[2], bool):
         return False
-    if value[1] is not None and not is_integer(value[1], 0, MOST_SIZE):
-        return False
-    return is_style(value[3]) and value[1:] != (None, False, PLAIN)
+    return is_size(value[1]) and is_style(value[3]) and value[1:] != (None, False, PLAIN)
+
+
+def is_size(value):
+    """Whether a value of any kind is the size of a column or row."""
+    return value is None or is_integer(value, 0, MOST_SIZE)
+
+
+def is_target(value):
+    """Whether a value of any kind is the target of a link."""
+    return is_short_string(value) and value != ""
+
+
+def _index_of(items, at):
+    """The index of the first of some items, ascending by their own first items, that is not in front of this one."""
+    low, high = 0, len(items)
+    while low < high:
+        middle = (low + high) // 2
+        if items[middle][0] < at:
+            low = middle + 1
+        else:
+            high = middle
+    return low
 
 
 def _wrong_item(items, is_right, most):
@@ -75,11 +120,6 @@ def _wrong_item(items, is_right, most):
             return (at,)
         before = item[0]
     return None
-
-
-def _meet(one, other):
-    """Whether two rectangles have a place in common."""
-    return one[0] <= other[2] and other[0] <= one[2] and one[1] <= other[3] and other[1] <= one[3]
 
 
 def _is_cell(value):
@@ -97,4 +137,4 @@ def _is_full_and_covered(cell, merges):
 
 
 def _is_link(value):
-    return is_tuple_of(value, 2) and is_place(value[0]) and is_short_string(value[1]) and value[1] != ""
+    return is_tuple_of(value, 2) and is_place(value[0]) and is_target(value[1])

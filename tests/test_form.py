@@ -13,7 +13,7 @@ BUILTINS = set("""len range enumerate zip min max sum abs sorted reversed int st
     staticmethod classmethod""".split())
 METHODS = set("""append clear copy count endswith extend find get index insert isalnum isalpha isdigit islower isspace
     isupper items join keys ljust lower lstrip partition pop remove replace reverse rfind rjust rpartition rsplit rstrip
-    setdefault split splitlines startswith strip update upper values zfill bit_length add discard""".split())
+    removeprefix setdefault split splitlines startswith strip update upper values zfill bit_length add discard""".split())
 BARRED = set("""register mro elements open input law version_info with_traceback add_note attrgetter breakpoint compile
     copyright credits delattr dir eval exec exit gc getattr globals hasattr help id importlib license locals methodcaller
     os quit setattr vars global""".split())
@@ -129,7 +129,7 @@ class Names(unittest.TestCase):
             word = getattr(node, "id", None) or getattr(node, "arg", None) or getattr(node, "attr", None) \
                 or getattr(node, "name", None)
             if word is not None and word != "_":
-                self.assertRegex(word, r"^(_?[A-Za-z][A-Za-z0-9_]*|__init__)$", name)
+                self.assertRegex(word, r"^(_?[A-Za-z][A-Za-z0-9_]*|__init__|__enter__|__exit__)$", name)
                 self.assertNotIn(word, BARRED, name)
 
     def test_no_name_of_a_builtin_a_class_or_an_import_is_bound_again(self):

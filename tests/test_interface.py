@@ -13,6 +13,10 @@ CONSTANTS = {
     "model": {"MOST_CELLS": 2000, "MOST_SHEETS": 30},
     "trees": {"MOST_DEPTH": 20, "MOST_WEIGHT": 1999, "MOST_CALLED": 30},
     "tables": {"PART_SORTS": ("format", "font", "fill", "border", "align")},
+    "links": {"TYPES": ("book", "strings", "styles", "sheet", "outer")},
+    "canonical": {"RULES": ("clean", "paths", "words", "order", "numbers", "use", "needed", "defaults", "least")},
+    "reading": {"CODES": ("line", "again", "lost", "off", "ring", "full", "part", "alone", "count"),
+                "KINDS": ("links", "book", "parts", "strings", "styles", "sheet", "outer")},
 }
 FUNCTIONS = {
     "places": """is_place(value) is_rectangle(value) column_name(column) place_name(place) rectangle_name(rectangle)
@@ -41,6 +45,12 @@ FUNCTIONS = {
     "runs": """setting_runs(settings) settings_of(runs) joins_of(cells) crosses(one,other) greatest_matching(cells)
         given_up(cells) fewest_lines(cells) formula_lines(cells) line_cells(lines) check_matching(cells,pairs)""",
     "counts": "formula_cells(sheet) counts_of(book) paper_of(book) check_paper(book,paper) is_shown(book,paper)",
+    "links": """links_of(path) is_path(value) relationship_line(number,sort,target) relationship_of(line) ways(file)
+        unreached(file)""",
+    "writing": "write(book) paths_of(book) part_lines(book,path) string_table(book) style_table(book)",
+    "canonical": "breaches(file) is_canonical(file)",
+    "reading": """read(file) complaints(file) is_clean(file) word_of(kind,line) disagree(kind,one,other)
+        is_greatest(kind,text,kept)""",
 }
 CLASSES = {
     "model": {
@@ -65,10 +75,12 @@ CLASSES = {
             style_at(self,number) number_of(self,style) part_number(self,sort,part) grown(self,things) merged(self,other)
             compacted(self,numbers)""",
     },
+    "reading": {"Reading": "__init__(self,file) book(self) complaints(self) kept(self) kinds(self)"},
 }
 # What is read without a call, and what is called off the class.
 PROPERTIES = {("model", "Sheet"): "name cells merges columns rows frozen links hidden", ("model", "Book"): "sheets active names",
-              ("editmaps", "EditMap"): "pieces", ("tables", "TextTable"): "texts how_many", ("tables", "StyleTable"): "parts rows how_many"}
+              ("editmaps", "EditMap"): "pieces", ("tables", "TextTable"): "texts how_many", ("tables", "StyleTable"): "parts rows how_many",
+              ("reading", "Reading"): "book complaints kept kinds"}
 CLASS_METHODS = {("editmaps", "EditMap"): "unchanged inserting deleting of"}
 
 
