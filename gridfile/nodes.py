@@ -90,3 +90,13 @@ def words_of(tree):
 def has_fixed_parts_only(tree):
     """Whether all parts of references in a tree are fixed in both numbers."""
     return all(part[2] and part[3] for _, node in references_of(tree) for part in node[2:])
+
+
+def with_sheet_name(tree, old, new):
+    """The tree with the sheet new in all references that have the sheet old."""
+    return with_references(tree, lambda node: (node[0], new, *node[2:]) if node[1] == old else node)
+
+
+def has_sheet_name(tree, name):
+    """Whether a reference in a tree has the sheet with this name."""
+    return any([node[1] == name for _, node in references_of(tree)])

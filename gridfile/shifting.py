@@ -3,10 +3,10 @@
 from gridfile.checks import is_integer, is_one_of
 from gridfile.editmaps import EditMap
 from gridfile.errors import BadFrozen, BadMap, BadNumber, BadSheetName, BadWord, Dangling, PastBorder, Taken
-from gridfile.model import Book, check_book
+from gridfile.model import check_book, right_book, with_right_parts
 from gridfile.moves import (AXES, ITEM_OF, frozen_behind, merge_behind, most_of, number_behind, place_behind,
                             tree_behind)
-from gridfile.nodes import references_of, with_references
+from gridfile.nodes import has_sheet_name, with_sheet_name
 from gridfile.parts import is_frozen
 from gridfile.places import check_place, check_rectangle
 from gridfile.trees import check_tree
@@ -89,12 +89,12 @@ def renamed(book, name, other):
     for at, sheet in enumerate(book.sheets):
         if at + 1 != number and sheet.name.lower() == other.lower():
             raise Taken(other)
-    if other != name and any([_leads_to(tree, other) for tree in _trees_in(book)]):
+    if other != name and any([has_sheet_name(tree, other) for tree in _trees_in(book)]):
         raise Dangling(other)
-    sheets = [_renamed_sheet(sheet, name, other) for sheet in book.sheets]
-    names = [(other if scope == name else scope, word, _renamed_tree(tree, name, other))
-             for scope, word, tree in book.names]
-    return Book(sheets, active=book.active, names=names)
+    sheets = tuple([_renamed_sheet(sheet, name, other) for sheet in book.sheets])
+    names = tuple([(other if scope == name else scope, word, with_sheet_name(tree, name, other))
+                   for scope, word, tree in book.names])
+    return right_book(sheets, book.active, names)
 
 
 def _check_axis(value):
@@ -126,14 +126,14 @@ def _moved_book(book, name, axis, edit_map):
     for sheet in book.sheets:
         if sheet.name == name:
             parts["cells"] = _cells_behind(sheet, goals, name, axis, edit_map)
-            sheets.append(sheet.changed(**parts))
+            sheets.append(with_right_parts(sheet, **parts))
         else:
             cells = _cells_behind(sheet, [cell[0] for cell in sheet.cells], name, axis, edit_map)
-            # Most sheets have no reference to the moved one, and checking cells again takes long.
-            sheets.append(sheet if tuple(cells) == sheet.cells else sheet.changed(cells=cells))
-    names = [(scope, word, _tree_or_told(tree, scope, name, axis, edit_map, ("name", scope, word)))
-             for scope, word, tree in book.names]
-    return Book(sheets, active=book.active, names=names)
+            sheets.append(with_right_parts(sheet, cells=cells))
+    names = tuple([(scope, word, _tree_or_told(tree, scope, name, axis, edit_map, ("name", scope, word)))
+                   for scope, word, tree in book.names])
+    # Moved trees stand where they stood and are no deeper or heavier, so all parts are right.
+    return right_book(tuple(sheets), book.active, names)
 
 
 def _goals_of(sheet, axis, edit_map):
@@ -149,15 +149,16 @@ def _parts_behind(sheet, axis, edit_map):
     frozen = frozen_behind(sheet.frozen, axis, edit_map, ("frozen", sheet.frozen[ITEM_OF[axis]]))
     links = [(place_behind(place, axis, edit_map, ("link", place)), target) for place, target in sheet.links]
     # Merges that began in different rows may begin in the same one now, so their order is another one.
-    return {"merges": sorted([merge for merge in merges if merge is not None]),
-            axis: [setting for setting in settings if setting[0] is not None], "frozen": frozen,
-            "links": [link for link in links if link[0] is not None]}
+    return {"merges": tuple(sorted([merge for merge in merges if merge is not None])),
+            axis: tuple([setting for setting in settings if setting[0] is not None]), "frozen": frozen,
+            "links": tuple([link for link in links if link[0] is not None])}
 
 
 def _cells_behind(sheet, goals, name, axis, edit_map):
     """The cells of a sheet that stay, at these places, when the sheet name is moved."""
-    return [(goal, value, _tree_or_told(tree, sheet.name, name, axis, edit_map, ("tree", sheet.name, place)), style)
-            for goal, (place, value, tree, style) in zip(goals, sheet.cells) if goal is not None]
+    cells = [(goal, value, _tree_or_told(tree, sheet.name, name, axis, edit_map, ("tree", sheet.name, place)), style)
+             for goal, (place, value, tree, style) in zip(goals, sheet.cells) if goal is not None]
+    return tuple(cells)
 
 
 def _tree_or_told(tree, home, name, axis, edit_map, thing):
@@ -174,18 +175,7 @@ def _trees_in(book):
     return trees + [item[2] for item in book.names]
 
 
-def _leads_to(tree, name):
-    """Whether a reference in a tree has the sheet with this name."""
-    return any([node[1] == name for _, node in references_of(tree)])
-
-
 def _renamed_sheet(sheet, name, other):
-    cells = [(place, value, None if tree is None else _renamed_tree(tree, name, other), style)
+    cells = [(place, value, None if tree is None else with_sheet_name(tree, name, other), style)
              for place, value, tree, style in sheet.cells]
-    if sheet.name == name:
-        return sheet.changed(name=other, cells=cells)
-    return sheet if tuple(cells) == sheet.cells else sheet.changed(cells=cells)
-
-
-def _renamed_tree(tree, name, other):
-    return with_references(tree, lambda node: (node[0], other, *node[2:]) if node[1] == name else node)
+    return with_right_parts(sheet, name=other if sheet.name == name else sheet.name, cells=tuple(cells))

@@ -15,6 +15,8 @@ CONSTANTS = {
     "tables": {"PART_SORTS": ("format", "font", "fill", "border", "align")},
     "links": {"TYPES": ("book", "strings", "styles", "sheet", "outer")},
     "canonical": {"RULES": ("clean", "paths", "words", "order", "numbers", "use", "needed", "defaults", "least")},
+    "edits": {"WORDS": ("cell", "link", "merge", "split", "setting", "freeze", "hide", "activate", "insert", "delete", "add",
+                        "remove", "order", "rename", "name", "all")},
     "reading": {"CODES": ("line", "again", "lost", "off", "ring", "full", "part", "alone", "count"),
                 "KINDS": ("links", "book", "parts", "strings", "styles", "sheet", "outer")},
 }
@@ -51,6 +53,11 @@ FUNCTIONS = {
     "canonical": "breaches(file) is_canonical(file)",
     "reading": """read(file) complaints(file) is_clean(file) word_of(kind,line) disagree(kind,one,other)
         is_greatest(kind,text,kept)""",
+    "damage": "things_of(book) taken(book,things) damaged(file,spots) without_lines(file,spots)",
+    "edits": """is_edit(value) do(book,edit) do_all(book,*edits) inverse(book,edit) remains(book,edit) differences(one,other)
+        changed_things(edit)""",
+    "apart": "together(book,e,f) carried(book,e,f) conflict(book,e,f) together_rows(book,es,fs)",
+    "sessions": "do_together(session,*edits) in_block(session,many,*edits)",
 }
 CLASSES = {
     "model": {
@@ -76,12 +83,25 @@ CLASSES = {
             compacted(self,numbers)""",
     },
     "reading": {"Reading": "__init__(self,file) book(self) complaints(self) kept(self) kinds(self)"},
+    "damage": {
+        "Carriers": "__init__(self,file) book(self) carried(self,path,number) carriers(self,thing) loss(self,spots) weights(self)",
+        "Damage": "__init__(self,file) hit(self,path,number) left(self) spots(self)",
+    },
+    "sessions": {
+        "Session": """__init__(self,book) book(self) done_edits(self) undone_edits(self) do(self,edit) undo(self,many=1)
+            redo(self,many=1) copy(self) each_book(self)""",
+        "Block": "__init__(self,session) __enter__(self) __exit__(self,kind,value,trace)",
+    },
+    "stores": {"Store": """__init__(self,file) of(cls,book) file(self) complaints(self) is_saved(self) path_of(self,sheet)
+        save(self) would_change(self) compact(self)"""},
 }
 # What is read without a call, and what is called off the class.
 PROPERTIES = {("model", "Sheet"): "name cells merges columns rows frozen links hidden", ("model", "Book"): "sheets active names",
               ("editmaps", "EditMap"): "pieces", ("tables", "TextTable"): "texts how_many", ("tables", "StyleTable"): "parts rows how_many",
-              ("reading", "Reading"): "book complaints kept kinds"}
-CLASS_METHODS = {("editmaps", "EditMap"): "unchanged inserting deleting of"}
+              ("reading", "Reading"): "book complaints kept kinds", ("damage", "Carriers"): "book", ("damage", "Damage"): "spots",
+              ("sessions", "Session"): "book done_edits undone_edits", ("stores", "Store"): "file complaints"}
+CLASS_METHODS = {("editmaps", "EditMap"): "unchanged inserting deleting of", ("stores", "Store"): "of"}
+BASES = {("damage", "Damage"): "Carriers", ("stores", "Store"): "Session"}
 
 
 def tree_of(name):
@@ -116,6 +136,11 @@ class Interface(unittest.TestCase):
                 heads = heads_in(bodies[word].body)
                 for head in told.split():
                     self.assertEqual(heads.get(head.partition("(")[0]), head, word)
+
+    def test_classes_below_others(self):
+        for (name, word), base in BASES.items():
+            body = next(node for node in tree_of(name).body if isinstance(node, ast.ClassDef) and node.name == word)
+            self.assertEqual([ast.unparse(one) for one in body.bases], [base])
 
     def test_properties_and_class_methods(self):
         for told, decorator in ((PROPERTIES, "property"), (CLASS_METHODS, "classmethod")):
