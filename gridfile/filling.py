@@ -1,10 +1,9 @@
 """Rectangles of a sheet filled from a place, or copied, and what filling loses."""
 
 from gridfile.errors import BadSheet, Covered, PastBorder, TooMuch
-from gridfile.model import MOST_CELLS, Sheet
+from gridfile.model import MOST_CELLS, Sheet, with_right_parts
 from gridfile.offsets import filled_tree, form_of, room_of_form, tree_of
-from gridfile.places import (check_place, check_rectangle, common, has_place, is_rectangle, places_in, size_of,
-                             without)
+from gridfile.places import check_place, check_rectangle, common, is_rectangle, places_in, size_of, without
 from gridfile.values import PLAIN
 
 
@@ -14,9 +13,9 @@ def filled(sheet, start, rectangle):
     check_place(start)
     check_rectangle(rectangle)
     value, formula, style = sheet.cell_at(start)
-    others = [cell for cell in sheet.cells if not has_place(rectangle, cell[0])]
+    _, others = _parted(sheet.cells, rectangle)
     if (value, formula, style) == (None, None, PLAIN):
-        return sheet.changed(cells=others)
+        return with_right_parts(sheet, cells=tuple(others))
     if value is not None or formula is not None:
         covered = _first_covered(sheet, rectangle)
         if covered is not None:
@@ -26,7 +25,7 @@ def filled(sheet, start, rectangle):
         raise TooMuch(MOST_CELLS)
     form = None if formula is None else form_of(formula, start)
     cells = [(place, value, None if form is None else tree_of(form, place), style) for place in places_in(rectangle)]
-    return sheet.changed(cells=_ascending(others + cells))
+    return _with_cells(sheet, others + cells)
 
 
 def copied(sheet, rectangle, goal):
@@ -38,14 +37,15 @@ def copied(sheet, rectangle, goal):
     target = (*goal, rectangle[2] + down, rectangle[3] + along)
     if not is_rectangle(target):
         raise PastBorder(goal)
-    others = [cell for cell in sheet.cells if not has_place(target, cell[0])]
-    cells = [_copied_cell(cell, down, along) for cell in sheet.cells if has_place(rectangle, cell[0])]
+    _, others = _parted(sheet.cells, target)
+    inside, _ = _parted(sheet.cells, rectangle)
+    cells = [_copied_cell(cell, down, along) for cell in inside]
     for place, value, formula, _ in cells:
         if (value is not None or formula is not None) and sheet.is_covered(place):
             raise Covered(place)
     if len(others) + len(cells) > MOST_CELLS:
         raise TooMuch(MOST_CELLS)
-    return sheet.changed(cells=_ascending(others + cells))
+    return _with_cells(sheet, others + cells)
 
 
 def safe_part(sheet, start, rectangle):
@@ -93,5 +93,19 @@ def _copied_cell(cell, down, along):
     return (goal, value, None if formula is None else filled_tree(formula, place, goal), style)
 
 
-def _ascending(cells):
-    return sorted(cells, key=lambda cell: cell[0])
+def _parted(cells, rectangle):
+    """The pair of the lists of the cells in a rectangle, and of the others."""
+    top, left, bottom, right = rectangle
+    inside, outside = [], []
+    for cell in cells:
+        row, column = cell[0]
+        if top <= row <= bottom and left <= column <= right:
+            inside.append(cell)
+        else:
+            outside.append(cell)
+    return inside, outside
+
+
+def _with_cells(sheet, cells):
+    """The sheet with these cells, which are right: their values, trees and styles come from its own ones."""
+    return with_right_parts(sheet, cells=tuple(sorted(cells, key=lambda cell: cell[0])))

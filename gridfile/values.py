@@ -31,7 +31,11 @@ def is_short_string(value):
 
 def is_style(value):
     """Whether a value of any kind is a style."""
-    return is_tuple_of(value, 5) and all([is_style_part(at, part) for at, part in enumerate(value)])
+    if not is_tuple_of(value, 5):
+        return False
+    # Sheets have thousands of styles, so this does not go by way of the table below.
+    text, font, fill, border, align = value
+    return _is_format(text) and _is_font(font) and _is_fill(fill) and _is_border(border) and _is_align(align)
 
 
 def is_style_part(at, value):
@@ -69,7 +73,12 @@ def _is_fill(value):
 
 
 def _is_border(value):
-    return is_tuple_of(value, 4) and all(is_integer(edge, 0, MOST_BORDER) for edge in value)
+    if not is_tuple_of(value, 4):
+        return False
+    for edge in value:
+        if not is_integer(edge, 0, MOST_BORDER):
+            return False
+    return True
 
 
 def _is_align(value):
