@@ -99,9 +99,10 @@ class Keeper:
         if self._kind == "sheet" and told[0] in ("cell", "formula"):
             more = [place for place in _places_of(told) if place not in self._places]
             return len(self._places) + len(more) > MOST_CELLS
-        most = {("book", "sheet"): MOST_SHEETS, ("book", "name"): MOST_NAMES, ("sheet", "merge"): MOST_MERGES,
-                ("sheet", "link"): MOST_LINKS}.get((self._kind, told[0]))
-        return most is not None and self._many.get(told[0], 0) == most
+        limits = {("book", "sheet"): MOST_SHEETS, ("book", "name"): MOST_NAMES, ("sheet", "merge"): MOST_MERGES,
+                  ("sheet", "link"): MOST_LINKS}
+        sort = (self._kind, told[0])
+        return sort in limits and self._many.get(told[0], 0) == limits[sort]
 
     def _ring_of(self, told):
         """The words of the ring that a name closes, or None, which leaves the words that it uses known."""

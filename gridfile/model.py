@@ -9,7 +9,7 @@ from gridfile.parts import (is_covered_by, is_frozen, item_at, merge_with, with_
                             wrong_merge, wrong_setting)
 from gridfile.places import MOST_COLUMN, MOST_ROW, check_place
 from gridfile.trees import check_tree
-from gridfile.values import PLAIN, is_style, is_value, same
+from gridfile.values import PLAIN, is_style, is_value
 from gridfile.words import is_sheet_name
 
 MOST_CELLS = 2000
@@ -136,7 +136,11 @@ class Sheet:
 
     def is_same(self, other):
         """Whether other is a sheet with the same parts."""
-        return isinstance(other, Sheet) and same(tuple(_told_parts(self).values()), tuple(_told_parts(other).values()))
+        if not isinstance(other, Sheet) or _told_parts(self) != _told_parts(other):
+            return False
+        # Of equal parts only the values of cells can be of two kinds, like 1 and True.
+        return all([isinstance(cell[1], bool) == isinstance(another[1], bool)
+                    for cell, another in zip(self._cells, other.cells)])
 
 
 class Book:
@@ -213,7 +217,7 @@ class Book:
         for sheet, another in zip(self._sheets, other.sheets):
             if not sheet.is_same(another):
                 return False
-        return self._active == other.active and same(self._names, other.names)
+        return self._active == other.active and self._names == other.names
 
 
 def check_book(value):
