@@ -9,11 +9,11 @@ from gridfile.errors import BadPlace, BadRectangle, BadSheet, Covered, PastBorde
 from gridfile.filling import copied, filled, losing_parts, safe_part
 from gridfile.forms import fill, lost_by, relative, room, same_form
 from gridfile.formulas import read_formula
-from gridfile.model import Sheet
+from gridfile.model import Book, Sheet
 from gridfile.places import has_place, places_in
 from gridfile.runs import formula_lines
 from gridfile.values import PLAIN
-from support import ODD_VALUES, caught
+from support import ODD_VALUES, caught, random_sheet, remade
 
 BOLD = ("", ("Plain", 10, True, False), None, (0, 0, 0, 0), ("general", False))
 TREE = read_formula("=A1+$B$2")
@@ -161,6 +161,41 @@ class Copied(unittest.TestCase):
         self.assertEqual(caught(Covered, copied, sheet, (1, 1, 1500, 1), (1, 4)).place, (3, 4))
         self.assertEqual(caught(Covered, copied, sheet, (1, 1, 1500, 1), (1, 3)).place, (4, 3))
         self.assertEqual(caught(TooMuch, copied, sheet, (1, 1, 1500, 1), (1, 5)).most, 2000)
+
+
+class Made(unittest.TestCase):
+    """What is filled or copied is not checked again, so it must be right by itself."""
+
+    def test_the_sheets_are_ones_that_their_own_parts_make(self):
+        chance = random.Random(21)
+        found = 0
+        for _ in range(150):
+            sheet = random_sheet(chance, "a", [None, "a", "b"], ["rate"])
+            start = chance.choice([cell[0] for cell in sheet.cells] or [(1, 1)])
+            top, left = chance.randint(1, 9), chance.randint(1, 5)
+            rectangle = (top, left, top + chance.randint(0, 5), left + chance.randint(0, 3))
+            for call, given in ((filled, (start, rectangle)), (copied, (rectangle, (chance.randint(1, 12), chance.randint(1, 8))))):
+                try:
+                    made = call(sheet, *given)
+                except Covered:
+                    continue
+                found += 1
+                self.assertTrue(remade(Book([made])).is_same(Book([made])))
+                # The other parts stay, and so does the sheet itself.
+                self.assertTrue(made.changed(cells=sheet.cells).is_same(sheet))
+                for place in places_in(rectangle) if call is filled else ():
+                    value, formula, style = sheet.cell_at(start)
+                    self.assertEqual(made.cell_at(place), (value, None if formula is None else fill(formula, start, place), style))
+        self.assertGreater(found, 150)
+
+    def test_full_sheets_take_no_long(self):
+        begun = time.process_time()
+        full = filled(Sheet("S").with_cell((1, 1), 1), (1, 1), (1, 1, 4, 500))
+        self.assertEqual(len(full.cells), 2000)
+        for _ in range(50):
+            self.assertTrue(copied(full, (1, 1, 1, 9), (2, 10)).is_same(full))
+            self.assertEqual(filled(full, (9, 9), (1, 1, 6, 600)).cells, ())
+        self.assertLess(time.process_time() - begun, 1)
 
 
 class Losing(unittest.TestCase):
