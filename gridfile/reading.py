@@ -84,8 +84,6 @@ def disagree(kind, one, other):
 def is_greatest(kind, text, kept):
     """Whether these are the numbers of the kept lines of a part with this text, as far as the part alone tells."""
     _check_kind(kind)
-    if not isinstance(text, str):
-        raise BadLine(None)
     return same(kept, tuple([told[0] for told in PartReading(kind, text, None).told]))
 
 

@@ -131,6 +131,15 @@ class Together(unittest.TestCase):
         self.both(("insert", "Data", "rows", 4, 2), ("delete", "Data", "rows", 5, 3), None, ("delete", "Data", "rows", 7, 3))
         self.both(("insert", "Data", "rows", 9, 2), ("delete", "Data", "rows", 5, 3), ("insert", "Data", "rows", 6, 2), None)
 
+    def test_up_to_the_border(self):
+        insert = ("insert", "Data", "rows", 5, 1)
+        self.both(("delete", "Data", "rows", 9997, 2), insert, ("delete", "Data", "rows", 9998, 2))
+        self.both(("insert", "Data", "rows", 9998, 9), insert, ("insert", "Data", "rows", 9999, 9))
+        self.both(cell("Data", 9998, 1, 5), insert, cell("Data", 9999, 1, 5))
+        self.both(("setting", "Data", "rows", 9998, 5, False, PLAIN), insert, ("setting", "Data", "rows", 9999, 5, False, PLAIN))
+        self.both(("delete", "Data", "columns", 701, 1), ("insert", "Data", "columns", 1, 1), ("delete", "Data", "columns", 702, 1))
+        self.both(("delete", "Data", "rows", 9999, 1), ("insert", "Data", "columns", 1, 1))
+
     def test_behind_rename(self):
         rename = ("rename", "Data", "New")
         for edit, moved in ((cell("Data", 1, 2, 5, "=A1+Data!A1+More!A1"), cell("New", 1, 2, 5, "=A1+New!A1+More!A1")), (cell("More", 1, 1, None, "=Data!A1:B2"), cell("More", 1, 1, None, "=New!A1:B2")),

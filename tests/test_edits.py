@@ -88,6 +88,11 @@ class Forms(unittest.TestCase):
                     self.assertIs(is_edit(edit), False, edit)
                     self.check_refused(edit)
 
+    def test_names_that_are_taken_away_have_right_names_too(self):
+        for edit in (*[("name", scope, "rate", None) for scope in (*BAD_NAMES[:4], 1, ())], *[("name", None, word, None) for word in ("a1", "R", "", None, 5, "TRUE")]):
+            self.assertIs(is_edit(edit), False, edit)
+            self.check_refused(edit)
+
     def check_refused(self, edit):
         book = a_book()
         for call in (do, do_all, inverse, remains):

@@ -358,6 +358,8 @@ class Kept(unittest.TestCase):
         rows = ['formula A1:A1 "=R[-1]C"', 'formula A2:A9999 "=R[-1]C"', 'formula B1:B2 "=R[9997]C"', 'formula B3:B4 "=R[9997]C"', 'formula C1:D1 "=RC[-4]"', 'formula E1:F1 "=RC[-4]"',
                 'formula G1:G1 "=R[9998]C+R[-1]C"', 'formula H1:H3 "=R9999C702"']
         self.assertEqual(told(file_of(sheet=rows), "s"), [(2, "off", None), (3, "full", None), (5, "off", None), (6, "off", None), (8, "off", None)])
+        rows = ['formula A1:A1 "=RC[701]"', 'formula B1:B1 "=RC[701]"', 'formula A2:B2 "=RC[700]"', 'formula A3:B3 "=RC[701]"', 'formula A9998:A9998 "=R[1]C"', 'formula A9999:A9999 "=R[1]C"']
+        self.assertEqual(told(file_of(sheet=rows), "s"), [(3, "off", None), (5, "off", None), (7, "off", None)])
         # It counts before what disagrees.
         self.assertEqual(told(file_of(sheet=['formula A1:A1 "=1"', 'formula A1:A1 "=R[-1]C"']), "s"), [(3, "off", None)])
 
@@ -426,6 +428,12 @@ class Kept(unittest.TestCase):
         file = file_of(book=['sheet 1 "Data" r1', *rows])
         self.assertEqual(told(file, "b"), [(4, "ring", None), (6, "ring", 3), (7, "ring", None), (9, "ring", 8), (10, "lost", None), (12, "ring", 3), (13, "lost", None), (14, "ring", 13)])
         self.assertEqual([item[:2] for item in read(file).names], [(None, "a"), (None, "b"), (None, "k"), ("Data", "a")])
+
+    def test_a_name_that_is_not_kept_is_in_no_ring(self):
+        rows = ['name - x "=y"', 'name - y "=x+z"', 'name - z "=x"', 'name - y "=z"', 'name - y "=1"']
+        file = file_of(book=['sheet 1 "Data" r1', *rows])
+        self.assertEqual(told(file, "b"), [(4, "ring", 3), (6, "ring", 5)])
+        self.assertEqual([item[1] for item in read(file).names], ["x", "y", "z"])
 
     def test_the_shortest_ring_is_told(self):
         rows = ['name - a "=b"', 'name - b "=d"', 'name - k "=d"', 'name - e "=d"', 'name - d "=a+k+e"']
